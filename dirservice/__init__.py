@@ -1,0 +1,1 @@
+"""Dirservice: a directory service."""

@@ -1,0 +1,160 @@
+"""Point [0], second paragraph, and what holds for the interface of every file."""
+
+import copy
+import importlib
+import inspect
+import unittest
+
+from dirservice.entries import Entry
+from dirservice.errors import BadName
+from dirservice.names import Name
+from dirservice.schemas import Attribute, ObjectClass, Schema
+from tests.samples import ATTRIBUTES, CLASSES, outcome, schema, unit
+
+FUNCTIONS = {
+    "values": {
+        "is_valid": "(syntax, value)",
+        "normal": "(syntax, value)",
+        "are_equal": "(syntax, one, other)",
+        "is_less": "(syntax, one, other)",
+        "has_order": "(syntax)",
+    },
+}
+CLASS_TABLE = {
+    "names": {
+        "Name": {
+            "__init__": "(self, text='')", "of": "(*leaves)", "child": "(self, leaf)", "moved": "(self, old, new)",
+            "comes_before": "(self, other)", "__contains__": "(self, x)", "__eq__": "(self, other)", "__str__": "(self)",
+            "text": None, "normal": None, "leaf": None, "parent": None, "pairs": None, "depth": None,
+        },
+    },
+    "schemas": {
+        "Attribute": {
+            "__init__": "(self, word, syntax='text', *, single=False, tracked=False, mirror=None)",
+            "word": None, "syntax": None, "single": None, "tracked": None, "mirror": None,
+        },
+        "ObjectClass": {
+            "__init__": "(self, word, *, role='structural', above=None, must=(), may=(), under=None)",
+            "word": None, "role": None, "above": None, "must": None, "may": None, "under": None,
+        },
+        "Schema": {
+            "__init__": "(self, attributes, classes)", "syntax_of": "(self, word)", "is_single": "(self, word)",
+            "is_tracked": "(self, word)", "mirror_of": "(self, word)", "classes_above": "(self, word)",
+            "belongs": "(self, entry)", "required": "(self, entry)", "allowed": "(self, entry)",
+            "check": "(self, entry, above=None)", "__eq__": "(self, other)", "attributes": None, "classes": None,
+        },
+    },
+    "entries": {
+        "Entry": {
+            "__init__": "(self, entry_name, **attributes)", "of": "(entry_name, attributes)",
+            "with_values": "(self, **attributes)", "renamed": "(self, name)", "__getitem__": "(self, at)",
+            "__contains__": "(self, x)", "__iter__": "(self)", "__eq__": "(self, other)", "name": None, "words": None,
+        },
+    },
+}
+
+
+def objects():
+    """An object of each class, made anew."""
+    return (Name("cn=A,ou=b"), Attribute("cn"), ObjectClass("unit"), schema(), unit(), BadName("x"))
+
+
+class TestInterface(unittest.TestCase):
+
+    def test_functions_stand_in_their_files(self):
+        for place, table in FUNCTIONS.items():
+            module = importlib.import_module(f"dirservice.{place}")
+            for word, signature in table.items():
+                with self.subTest(word):
+                    function = getattr(module, word)
+                    self.assertTrue(inspect.isfunction(function))
+                    self.assertEqual(function.__module__, module.__name__)
+                    self.assertEqual(str(inspect.signature(function)), signature)
+
+    def test_classes_stand_in_their_files(self):
+        for place, table in CLASS_TABLE.items():
+            module = importlib.import_module(f"dirservice.{place}")
+            for word, members in table.items():
+                with self.subTest(word):
+                    self.assertEqual(getattr(module, word).__module__, module.__name__)
+                    self.check_members(getattr(module, word), members)
+
+    def check_members(self, owner, members):
+        for word, signature in members.items():
+            with self.subTest(word):
+                self.assertIn(word, vars(owner))
+                if signature is None:
+                    self.assertIsInstance(vars(owner)[word], property)
+                else:
+                    self.assertEqual(str(inspect.signature(getattr(owner, word))), signature)
+
+
+class TestGeneralRules(unittest.TestCase):
+
+    def test_properties_cannot_be_changed(self):
+        for table in CLASS_TABLE.values():
+            for owner, members in table.items():
+                one = [one for one in objects() if type(one).__name__ == owner][0]
+                for word, signature in members.items():
+                    if signature is None:
+                        with self.subTest(owner, word=word), self.assertRaises(AttributeError):
+                            setattr(one, word, "changed")
+
+    def test_objects_equal_nothing_of_another_kind(self):
+        others = (None, 0, 1, True, "", "cn=A,ou=b", "cn", "x", (), ("cn",), [], {}, b"cn", object())
+        for place, one in enumerate(objects()):
+            for other in others + tuple([other for at, other in enumerate(objects()) if at != place]):
+                with self.subTest(one=one, other=other):
+                    self.assertIs(one == other, False)
+                    self.assertIs(other == one, False)
+                    self.assertIs(one != other, True)
+
+    def test_objects_with_brackets_are_not_iterated(self):
+        for one in objects():
+            with self.subTest(one), self.assertRaises(TypeError):
+                iter(one)
+
+    def test_lists_are_never_tuples(self):
+        for call in (lambda: Schema([], ()), lambda: Schema((), []), lambda: Entry("", cn=["a"]),
+                     lambda: Schema((), (ObjectClass("a", must=[]),)), lambda: Schema((), (ObjectClass("a", may=[]),)),
+                     lambda: Schema((), (ObjectClass("a", under=[]),)), lambda: unit().with_values(cn=[]),
+                     lambda: Entry.of("", {"cn": []})):
+            self.assertIn(outcome(call)[0], ("BadSchema", "BadEntry"))
+
+    def test_bools_are_no_integers_and_integers_no_bools(self):
+        for value in (0, 1):
+            with self.subTest(value):
+                self.assertEqual(outcome(Schema, (Attribute("a", single=value),), ())[0], "BadSchema")
+                self.assertEqual(outcome(Schema, (Attribute("a", "name", tracked=value),), ())[0], "BadSchema")
+
+    def test_errors_are_checked_in_their_order(self):
+        self.assertEqual(outcome(Schema, None, None), ("BadSchema", {"part": "attributes", "place": None}))
+        self.assertEqual(outcome(Entry.of, "no name", None), ("BadName", {"given": "no name"}))
+        self.assertEqual(outcome(Entry, "no name", cn=None), ("BadName", {"given": "no name"}))
+
+    def test_arguments_are_not_changed(self):
+        given = {"kind": ("unit",), "ou": ("a",), "mail": ()}
+        kept = copy.deepcopy(given)
+        entry = Entry.of("ou=a", given)
+        entry.with_values(**given)
+        schema().check(entry)
+        self.assertEqual(given, kept)
+        self.assertEqual(list(given), list(kept))
+
+    def test_later_changes_of_arguments_have_no_effect(self):
+        given = {"kind": ("unit",), "ou": ("a",)}
+        one, other = Entry.of("ou=a", given), unit().with_values(**given)
+        given.clear()
+        self.assertEqual((one, other), (unit(), unit()))
+
+    def test_equal_calls_return_equal_results(self):
+        one, other = Schema(ATTRIBUTES, CLASSES), Schema(tuple(list(ATTRIBUTES)), tuple(list(CLASSES)))
+        self.assertEqual(one, other)
+        for _ in range(2):
+            self.assertEqual(one.allowed(unit()), other.allowed(unit()))
+            self.assertEqual(one.belongs(unit()), other.belongs(unit()))
+        self.assertEqual(Name("cn=A").child("cn=B"), Name("cn=A").child("cn=B"))
+
+
+if __name__ == "__main__":
+    unittest.main()
