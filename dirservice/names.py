@@ -18,6 +18,14 @@ def as_name(given):
     return Name(given)
 
 
+def path_of(given):
+    """The path of the name that a value of any kind gives; None if it gives none."""
+    if isinstance(given, Name):
+        return given.path
+    leaves = read_name(given)
+    return None if leaves is None else normal_leaves(leaves)[::-1]
+
+
 class Name:
     """A row of relative names, that of the entry itself first."""
 
@@ -46,6 +54,11 @@ class Name:
     def normal(self):
         """The normal text."""
         return ",".join(self._normals)
+
+    @property
+    def path(self):
+        """The normal texts of its relative names, the last one first: what names are ordered by."""
+        return self._normals[::-1]
 
     @property
     def leaf(self):
@@ -82,7 +95,7 @@ class Name:
 
     def comes_before(self, other):
         """Whether it is ordered before another name."""
-        return self._normals[::-1] < other._normals[::-1]
+        return self.path < other.path
 
     def __contains__(self, x):
         leaves = x._leaves if isinstance(x, Name) else read_name(x)

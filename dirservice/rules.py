@@ -3,7 +3,7 @@
 from dirservice.errors import BadClasses, BadPlace, BadValue, Missing, MirrorGiven, NotAllowed, NotNamed
 from dirservice.errors import TooManyValues, UnknownClass, ValueTaken
 from dirservice.hosts import is_reference
-from dirservice.values import are_equal, is_valid, normal
+from dirservice.values import are_equal, valid_normal
 
 MAX_VALUES = 20
 
@@ -58,9 +58,14 @@ def check_allowed(schema, entry):
 
 def check_required(schema, entry):
     """Rule 4: all attributes that must be there are there."""
-    for word in schema.required(entry):
-        if word not in entry:
-            raise Missing(word)
+    missing = missing_words(schema, entry)
+    if missing:
+        raise Missing(missing[0])
+
+
+def missing_words(schema, entry):
+    """The words of the attributes that must be there and are not."""
+    return [word for word in schema.required(entry) if word not in entry]
 
 
 def check_counts(schema, entry):
@@ -75,9 +80,9 @@ def check_values(syntax, word, values):
     """Rule 6 for one attribute: its values are valid, and no two of them are equal."""
     forms = []
     for value in values:
-        if not is_valid(syntax, value) or (word == "ref" and not is_reference(value)):
+        form = valid_normal(syntax, value)
+        if form is None or (word == "ref" and not is_reference(value)):
             raise BadValue(word, value)
-        form = normal(syntax, value)
         if form in forms:
             raise ValueTaken(word, value)
         forms.append(form)

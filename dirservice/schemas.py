@@ -112,15 +112,23 @@ class Schema:
 
     def attribute_of(self, word):
         """The definition of an attribute; UnknownAttribute for every other value."""
-        if not is_key(word, self._attribute_table):
+        if not self.has_attribute(word):
             raise UnknownAttribute(word)
         return self._attribute_table[word]
 
     def class_of(self, word):
         """The definition of a class; UnknownClass for every other value."""
-        if not is_key(word, self._class_table):
+        if not self.has_class(word):
             raise UnknownClass(word)
         return self._class_table[word]
+
+    def has_attribute(self, word):
+        """Whether a value of any kind is the word of an attribute."""
+        return is_key(word, self._attribute_table)
+
+    def has_class(self, word):
+        """Whether a value of any kind is the word of a class."""
+        return is_key(word, self._class_table)
 
     def syntax_of(self, word):
         """The syntax of an attribute."""

@@ -70,20 +70,35 @@ def normal(syntax, value):
     return value
 
 
+def valid_normal(syntax, value):
+    """The normal form of a value of any kind; None if it is not valid for a syntax."""
+    if syntax != "name":
+        return normal(syntax, value) if is_valid(syntax, value) else None
+    # The text of a name is read only once.
+    leaves = read_name(value)
+    return ",".join(normal_leaves(leaves)) if leaves else None
+
+
+def form(syntax, value):
+    """What is the same for two strings, valid or not, if they are equal as values of a syntax."""
+    # A normal form is valid itself, so it is never that of a value that is not.
+    found = valid_normal(syntax, value)
+    return value if found is None else found
+
+
 def are_equal(syntax, one, other):
     """Whether two strings, valid or not, are equal as values of a syntax."""
-    if one == other:
-        return True
-    if not is_valid(syntax, one) or not is_valid(syntax, other):
-        return False
-    return normal(syntax, one) == normal(syntax, other)
+    return form(syntax, one) == form(syntax, other)
+
+
+def rank(syntax, normal_form):
+    """What a normal form of a syntax that has an order is ordered by."""
+    return int(normal_form) if syntax == "integer" else normal_form
 
 
 def is_less(syntax, one, other):
     """Whether a valid value comes before another one, for a syntax that has an order."""
-    if syntax == "integer":
-        return int(one) < int(other)
-    return normal(syntax, one) < normal(syntax, other)
+    return rank(syntax, normal(syntax, one)) < rank(syntax, normal(syntax, other))
 
 
 def has_order(syntax):

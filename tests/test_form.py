@@ -11,7 +11,7 @@ BUILTINS = set(vars(builtins))
 ALLOWED_BUILTINS = set("""
     len range enumerate zip min max sum abs sorted reversed int str bool list tuple dict set isinstance ord repr any all
     divmod Exception ValueError TypeError KeyError IndexError LookupError ZeroDivisionError ArithmeticError OverflowError
-    RuntimeError NotImplementedError property staticmethod classmethod
+    RuntimeError NotImplementedError property staticmethod classmethod super
 """.split())
 ALLOWED_METHODS = set("""
     append clear copy count endswith extend find get index insert isalnum isalpha isdigit islower isspace isupper items
@@ -23,7 +23,7 @@ ALLOWED_DOUBLE = set("""
 """.split())
 BARRED = set("""
     register mro elements open input law version_info with_traceback add_note type typing enum Enum Generic Protocol ABC
-    namedtuple args global async print hash id next iter map filter object dir vars eval exec super globals locals
+    namedtuple args global async print hash id next iter map filter object dir vars eval exec globals locals
 """.split())
 DEFINITIONS = (ast.FunctionDef, ast.ClassDef)
 
@@ -117,6 +117,50 @@ class TestForm(unittest.TestCase):
                     self.assertIn(node.func.attr, own | ALLOWED_METHODS)
                 if isinstance(node, ast.FunctionDef) and node.name.startswith("__"):
                     self.assertIn(node.name, ALLOWED_DOUBLE)
+
+    def test_properties_have_names_of_their_own(self):
+        methods, properties = set(), set()
+        for tree in map(tree_of, FILES):
+            for owner in tree.body:
+                for node in owner.body if isinstance(owner, ast.ClassDef) else ():
+                    if isinstance(node, ast.FunctionDef):
+                        shown = [ast.unparse(decorator) for decorator in node.decorator_list]
+                        (properties if "property" in shown else methods).add(node.name)
+        self.assertEqual(properties & methods, set())
+
+    def test_what_stands_behind_stars_of_calls(self):
+        for tree in map(tree_of, FILES):
+            for node in ast.walk(tree):
+                if isinstance(node, ast.Call):
+                    starred = [one.value for one in node.args if isinstance(one, ast.Starred)]
+                    for one in starred + [one.value for one in node.keywords if one.arg is None]:
+                        self.assertRegex(ast.unparse(one), r"^[a-z_]+(\._[a-z_]+)?$")
+
+    def test_exponents_are_literals(self):
+        for tree in map(tree_of, FILES):
+            for node in ast.walk(tree):
+                if isinstance(node, ast.BinOp) and isinstance(node.op, ast.Pow):
+                    self.assertIsInstance(node.right, ast.Constant)
+
+    def test_generators_have_names_of_their_own_and_stand_alone(self):
+        generators, others = [], []
+        for tree in map(tree_of, FILES):
+            for node in ast.walk(tree):
+                if isinstance(node, ast.FunctionDef):
+                    yields = [one for one in ast.walk(node) if isinstance(one, (ast.Yield, ast.YieldFrom))]
+                    (generators if yields else others).append(node)
+                    for one in ast.walk(node) if yields else ():
+                        self.assertNotIsInstance(one, (ast.Try, ast.With))
+        names = [node.name for node in generators]
+        self.assertEqual(len(names), len(set(names)))
+        self.assertEqual(set(names) & {node.name for node in others}, set())
+
+    def test_finally_only_assigns(self):
+        for tree in map(tree_of, FILES):
+            for node in ast.walk(tree):
+                if isinstance(node, ast.Try):
+                    for row in node.finalbody:
+                        self.assertRegex(ast.unparse(row), r"^[a-z_.]+ = [a-z_.]+$")
 
     def test_what_the_package_does_without(self):
         barred = (ast.GeneratorExp, ast.Lambda, ast.Global, ast.AnnAssign, ast.AsyncFunctionDef, ast.Await, ast.Import,

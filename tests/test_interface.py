@@ -5,8 +5,11 @@ import importlib
 import inspect
 import unittest
 
+from dirservice.directories import Directory
 from dirservice.entries import Entry
 from dirservice.errors import BadName
+from dirservice.filters import All, AtLeast, AtMost, Equal, Not, Pieces, Present, Some
+from dirservice.indexes import add_index, candidates
 from dirservice.names import Name
 from dirservice.schemas import Attribute, ObjectClass, Schema
 from tests.samples import ATTRIBUTES, CLASSES, outcome, schema, unit
@@ -19,6 +22,20 @@ FUNCTIONS = {
         "is_less": "(syntax, one, other)",
         "has_order": "(syntax)",
     },
+    "filters": {
+        "read_filter": "(text)",
+    },
+    "indexes": {
+        "add_index": "(directory, word, index)",
+        "drop_index": "(directory, word, index)",
+        "candidates": "(directory, wanted)",
+    },
+}
+CONSTANTS = {
+    "values": {"SYNTAXES": ("text", "exact", "integer", "truth", "name"), "MAX_VALUE": 60, "MAX_DIGITS": 30},
+    "filters": {"MAX_PARTS": 60, "MAX_LEVELS": 12},
+    "directories": {"MAX_ENTRIES": 300, "MAX_DEPTH": 12, "MAX_UNDO": 20},
+    "indexes": {"INDEXES": ("present", "equal", "order", "pieces")},
 }
 CLASS_TABLE = {
     "names": {
@@ -51,12 +68,41 @@ CLASS_TABLE = {
             "__contains__": "(self, x)", "__iter__": "(self)", "__eq__": "(self, other)", "name": None, "words": None,
         },
     },
+    "filters": {
+        "Filter": {
+            "result": "(self, schema, entry)", "simplified": "(self)", "__and__": "(self, other)",
+            "__or__": "(self, other)", "__neg__": "(self)", "__eq__": "(self, other)", "__str__": "(self)", "text": None,
+            "parts": None, "levels": None, "size": None,
+        },
+        "All": {"__init__": "(self, *parts)"},
+        "Some": {"__init__": "(self, *parts)"},
+        "Not": {"__init__": "(self, part)"},
+        "Present": {"__init__": "(self, word)"},
+        "Equal": {"__init__": "(self, word, value)"},
+        "AtLeast": {"__init__": "(self, word, value)"},
+        "AtMost": {"__init__": "(self, word, value)"},
+        "Pieces": {"__init__": "(self, word, *pieces)"},
+    },
+    "directories": {
+        "Directory": {
+            "__init__": "(self, schema, entries=())", "add_entry": "(self, entry, *, manage=False)",
+            "delete": "(self, name, *, manage=False)", "modify": "(self, name, changes, *, manage=False)",
+            "rename": "(self, name, leaf, *, under=None, keep=False, manage=False)",
+            "apply": "(self, deeds, *, manage=False)", "undo": "(self)", "attempt": "(self, function)",
+            "walk": "(self, base='')", "children": "(self, name='')", "__getitem__": "(self, at)",
+            "__contains__": "(self, x)", "__len__": "(self)", "__iter__": "(self)", "__eq__": "(self, other)",
+            "schema": None, "indexes": None, "undoable": None,
+        },
+    },
 }
 
 
 def objects():
     """An object of each class, made anew."""
-    return (Name("cn=A,ou=b"), Attribute("cn"), ObjectClass("unit"), schema(), unit(), BadName("x"))
+    comparisons = (Present("a"), Equal("a", "b"), AtLeast("a", "b"), AtMost("a", "b"), Pieces("a", "b", ""))
+    filters = (All(), Some(), Not(Present("a")), *comparisons)
+    return (Name("cn=A,ou=b"), Attribute("cn"), ObjectClass("unit"), schema(), unit(), BadName("x"),
+            Directory(schema(), (unit(),)), *filters)
 
 
 class TestInterface(unittest.TestCase):
@@ -79,6 +125,13 @@ class TestInterface(unittest.TestCase):
                     self.assertEqual(getattr(module, word).__module__, module.__name__)
                     self.check_members(getattr(module, word), members)
 
+    def test_constants_stand_in_their_files(self):
+        for place, table in CONSTANTS.items():
+            module = importlib.import_module(f"dirservice.{place}")
+            for word, value in table.items():
+                self.assertEqual(getattr(module, word), value)
+                self.assertIs(type(getattr(module, word)), type(value))
+
     def check_members(self, owner, members):
         for word, signature in members.items():
             with self.subTest(word):
@@ -94,7 +147,7 @@ class TestGeneralRules(unittest.TestCase):
     def test_properties_cannot_be_changed(self):
         for table in CLASS_TABLE.values():
             for owner, members in table.items():
-                one = [one for one in objects() if type(one).__name__ == owner][0]
+                one = [one for one in objects() if owner in [base.__name__ for base in type(one).__mro__]][0]
                 for word, signature in members.items():
                     if signature is None:
                         with self.subTest(owner, word=word), self.assertRaises(AttributeError):
@@ -118,14 +171,21 @@ class TestGeneralRules(unittest.TestCase):
         for call in (lambda: Schema([], ()), lambda: Schema((), []), lambda: Entry("", cn=["a"]),
                      lambda: Schema((), (ObjectClass("a", must=[]),)), lambda: Schema((), (ObjectClass("a", may=[]),)),
                      lambda: Schema((), (ObjectClass("a", under=[]),)), lambda: unit().with_values(cn=[]),
-                     lambda: Entry.of("", {"cn": []})):
-            self.assertIn(outcome(call)[0], ("BadSchema", "BadEntry"))
+                     lambda: Entry.of("", {"cn": []}), lambda: Directory(schema(), []),
+                     lambda: Directory(schema()).modify("", []), lambda: Directory(schema()).modify("", (("add", "cn", []),)),
+                     lambda: Directory(schema()).modify("", (["add", "cn", ()],)), lambda: Directory(schema()).apply([]),
+                     lambda: Directory(schema()).apply((["delete", ""],)),
+                     lambda: Directory(schema()).apply((("modify", "", []),))):
+            self.assertIn(outcome(call)[0], ("BadSchema", "BadEntry", "BadChange", "BadDeed"))
 
     def test_bools_are_no_integers_and_integers_no_bools(self):
         for value in (0, 1):
             with self.subTest(value):
                 self.assertEqual(outcome(Schema, (Attribute("a", single=value),), ())[0], "BadSchema")
                 self.assertEqual(outcome(Schema, (Attribute("a", "name", tracked=value),), ())[0], "BadSchema")
+                self.assertEqual(outcome(Directory(schema()).apply, (("rename", "", "", None, value),))[0], "BadDeed")
+                changes = (("increment", "luck", bool(value)),)
+                self.assertEqual(outcome(Directory(schema()).modify, "", changes)[0], "BadChange")
 
     def test_errors_are_checked_in_their_order(self):
         self.assertEqual(outcome(Schema, None, None), ("BadSchema", {"part": "attributes", "place": None}))
@@ -154,6 +214,12 @@ class TestGeneralRules(unittest.TestCase):
             self.assertEqual(one.allowed(unit()), other.allowed(unit()))
             self.assertEqual(one.belongs(unit()), other.belongs(unit()))
         self.assertEqual(Name("cn=A").child("cn=B"), Name("cn=A").child("cn=B"))
+        first, second = Directory(schema(), (unit(),)), Directory(schema(), (unit(),))
+        for directory in (first, second):
+            add_index(directory, "ou", "equal")
+        for _ in range(2):
+            self.assertEqual(first.modify("ou=a", ()), second.modify("ou=a", ()))
+            self.assertEqual(candidates(first, "(ou=a)"), candidates(second, "(ou=a)"))
 
 
 if __name__ == "__main__":

@@ -5,7 +5,7 @@ import unittest
 
 from dirservice import values
 from dirservice.names import Name
-from dirservice.values import SYNTAXES, are_equal, has_order, is_less, is_valid, normal
+from dirservice.values import SYNTAXES, are_equal, has_order, is_less, is_valid, normal, valid_normal
 
 NO_STRINGS = (None, True, False, 0, 1, -5, 12, 1.5, (), ("a",), ("0",), [], ["a"], {}, {"a": 1}, b"a", b"0",
               Name("cn=a"), object(), str)
@@ -150,6 +150,18 @@ class TestIsLess(unittest.TestCase):
     def test_equal_values_are_not_less(self):
         self.assertIs(is_less("text", "a  B", " A b "), False)
         self.assertIs(is_less("text", " A b ", "a  B"), False)
+
+
+class TestValidNormal(unittest.TestCase):
+
+    def test_normal_forms_of_valid_values_and_none_for_others(self):
+        for syntax in SYNTAXES:
+            for value in VALID[syntax]:
+                self.assertEqual(valid_normal(syntax, value), normal(syntax, value))
+                # So the normal form of a value never is a value that is not valid.
+                self.assertEqual(valid_normal(syntax, normal(syntax, value)), normal(syntax, value))
+            for value in NOT_VALID[syntax] + NO_STRINGS:
+                self.assertIsNone(valid_normal(syntax, value))
 
 
 if __name__ == "__main__":
