@@ -22,6 +22,7 @@ class Directory:
         check_entries(entries)
         self._schema = schema
         self._table = {}
+        self._mirror_texts = None
         self._past = ()
         self._indexes = ()
         self._table = self.table_after(tuple([("add", entry) for entry in entries]), False)
@@ -41,9 +42,26 @@ class Directory:
         """The number of units that can be undone."""
         return len(self._past)
 
+    @property
+    def table(self):
+        """The entries without mirrors by the paths of their names, in the order of names. Nobody changes it."""
+        return self._table
+
+    @property
+    def mirror_texts(self):
+        """The values of all mirrors, as dirservice.tracking tells them."""
+        if self._mirror_texts is None:
+            self._mirror_texts = mirrored_texts(self._schema, self._table)
+        return self._mirror_texts
+
     def set_indexes(self, indexes):
         """Has other indexes from now on."""
         self._indexes = tuple(sorted(indexes))
+
+    def set_table(self, table):
+        """Has the entries of another table from now on."""
+        self._table = table
+        self._mirror_texts = None
 
     def add_entry(self, entry, *, manage=False):
         """Adds an entry; the texts of the names whose entries differ now."""
@@ -79,14 +97,14 @@ class Directory:
         table = self.table_after(deeds, manage)
         changed = changed_texts(self._table, table)
         self._past = (self._past + (self._table,))[-MAX_UNDO:]
-        self._table = table
+        self.set_table(table)
         return changed
 
     def undo(self):
         """Goes back to before the latest unit that was not undone."""
         if self.undoable == 0:
             raise NothingToUndo()
-        self._table = self._past[-1]
+        self.set_table(self._past[-1])
         self._past = self._past[:-1]
 
     def attempt(self, function):
@@ -98,6 +116,7 @@ class Directory:
             return function(self)
         finally:
             self._table = table
+            self._mirror_texts = None
             self._past = past
             self._indexes = indexes
 
@@ -115,14 +134,13 @@ class Directory:
             entry_at(self._table, above)
         return tuple([entry.name.text for entry in entries_straight_below(self._table, above.path)])
 
-    def all_entries(self):
-        """All entries with their mirrors, in the order of names."""
-        texts = mirrored_texts(self._schema, self._table)
-        return [with_mirrors(self._schema, self._table[path], texts) for path in self._table]
+    def entries_at(self, paths):
+        """The entries at paths, with their mirrors."""
+        texts = self.mirror_texts
+        return [with_mirrors(self._schema, self._table[path], texts) for path in paths]
 
     def __getitem__(self, at):
-        entry = entry_at(self._table, as_name(at))
-        return with_mirrors(self._schema, entry, mirrored_texts(self._schema, self._table))
+        return with_mirrors(self._schema, entry_at(self._table, as_name(at)), self.mirror_texts)
 
     def __contains__(self, x):
         return path_of(x) in self._table
@@ -135,6 +153,13 @@ class Directory:
 
     def __eq__(self, other):
         return isinstance(other, Directory) and self._schema == other._schema and self._table == other._table
+
+
+def directory_of(schema, table):
+    """A new directory with the entries of a table that one with this schema can have."""
+    directory = Directory(schema)
+    directory.set_table(table)
+    return directory
 
 
 def check_entries(entries):

@@ -120,12 +120,7 @@ class Draft:
     def check(self, entry):
         """Rules 1 to 9 for an entry, then rule 8 for each entry straight below it."""
         path = entry.name.path
-        self._schema.check(entry, self._table.get(path[:-1]))
-        below = entries_straight_below(self._table, path)
-        if below and is_referral(entry):
-            raise HasChildren(entry.name.text)
-        for one in below:
-            check_place(self._schema, one, entry)
+        check_between(self._schema, entry, self._table.get(path[:-1]), entries_straight_below(self._table, path))
 
     def place_of(self, value):
         """The path of the name that a value is; if it is none, the value."""
@@ -167,3 +162,12 @@ class Draft:
             self.check_targets(self._table[path])
         texts = {path: text_at(self._table, path) for path in self._table}
         return {path: self.followed(self._table[path], texts) for path in sorted(self._table)}
+
+
+def check_between(schema, entry, above, below):
+    """Rules 1 to 9 for an entry below another one, or None, then rule 8 for the entries straight below it."""
+    schema.check(entry, above)
+    if below and is_referral(entry):
+        raise HasChildren(entry.name.text)
+    for one in below:
+        check_place(schema, one, entry)

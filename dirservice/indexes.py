@@ -38,11 +38,19 @@ def candidates(directory, wanted):
     """The texts of the names of all entries that the indexes leave for a filter; None if they tell nothing."""
     tree = as_filter(wanted)
     # An index keeps nothing beside the entries, so that no deed, undo or attempt can leave it behind.
-    entries = directory.all_entries()
-    marks = marks_of(directory, [View(directory.schema, entry) for entry in entries], tree)
-    if marks is None:
-        return None
-    return tuple([entry.name.text for entry, mark in zip(entries, marks) if mark])
+    found = candidate_views(directory, views_at(directory, list(directory.table)), tree)
+    return None if found is None else tuple([view.entry.name.text for view in found])
+
+
+def views_at(directory, paths):
+    """Views of the entries at paths, with their mirrors."""
+    return [View(directory.schema, entry) for entry in directory.entries_at(paths)]
+
+
+def candidate_views(directory, views, wanted):
+    """Those of some views whose entries are candidates of a filter; None if that is unknown."""
+    marks = marks_of(directory, views, wanted)
+    return None if marks is None else [view for view, mark in zip(views, marks) if mark]
 
 
 def marks_of(directory, views, wanted):

@@ -23,5 +23,6 @@ def mirrored_texts(schema, table):
 def with_mirrors(schema, entry, texts):
     """An entry with the values of mirrors that the texts of mirrored_texts tell."""
     words = [one.word for one in schema.attributes if one.mirror is not None]
-    mirrors = {word: tuple(texts.get((word, entry.name.text), ())) for word in words}
-    return entry.with_values(**mirrors)
+    there = [word for word in words if (word, entry.name.text) in texts]
+    mirrors = {word: tuple(texts[word, entry.name.text]) for word in there}
+    return entry.with_values(**mirrors) if mirrors else entry

@@ -11,6 +11,11 @@ class View:
         self._entry = entry
         self._forms = {}
 
+    @property
+    def entry(self):
+        """The entry."""
+        return self._entry
+
     def syntax_of(self, word):
         """The syntax of an attribute; None if the schema does not have it."""
         return self._schema.syntax_of(word) if self._schema.has_attribute(word) else None

@@ -31,3 +31,8 @@ def is_key(value, table):
 def fold(value):
     """The normal form of a value that is valid for `text`."""
     return " ".join([part for part in value.lower().split(" ") if part != ""])
+
+
+def is_count(value):
+    """Whether a value of any kind is an integer of at least 1."""
+    return isinstance(value, int) and not isinstance(value, bool) and value >= 1

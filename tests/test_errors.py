@@ -110,6 +110,16 @@ class TestErrors(unittest.TestCase):
                 with self.subTest(name), self.assertRaises(family):
                     raise getattr(errors, name)(*GIVEN[:len(words)])
 
+    def test_errors_are_of_no_other_family(self):
+        for family, table in FAMILIES:
+            for other, others in FAMILIES:
+                for name in table:
+                    with self.subTest(name, other=other):
+                        one = getattr(errors, name)
+                        self.assertEqual(issubclass(one, other), other is family)
+                        self.assertEqual(issubclass(one, other.__bases__[0]), other is family)
+                        self.assertFalse(any(issubclass(one, getattr(errors, word)) for word in others if word != name))
+
     def test_errors_are_shown_as_in_the_examples(self):
         self.assertEqual(repr(errors.TooManyValues("age")), "TooManyValues('age')")
         self.assertEqual(repr(errors.NoValue("age", "")), "NoValue('age', '')")

@@ -160,7 +160,7 @@ class TestForm(unittest.TestCase):
             for node in ast.walk(tree):
                 if isinstance(node, ast.Try):
                     for row in node.finalbody:
-                        self.assertRegex(ast.unparse(row), r"^[a-z_.]+ = [a-z_.]+$")
+                        self.assertRegex(ast.unparse(row), r"^[a-z_.]+ = ([a-z_.]+|None)$")
 
     def test_what_the_package_does_without(self):
         barred = (ast.GeneratorExp, ast.Lambda, ast.Global, ast.AnnAssign, ast.AsyncFunctionDef, ast.Await, ast.Import,

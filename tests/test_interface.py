@@ -8,10 +8,14 @@ import unittest
 from dirservice.directories import Directory
 from dirservice.entries import Entry
 from dirservice.errors import BadName
+from dirservice.federations import Federation
 from dirservice.filters import All, AtLeast, AtMost, Equal, Not, Pieces, Present, Some
-from dirservice.indexes import add_index, candidates
+from dirservice.indexes import add_index, candidates, drop_index
 from dirservice.names import Name
+from dirservice.replicas import Replica
 from dirservice.schemas import Attribute, ObjectClass, Schema
+from dirservice.searching import Paging, search
+from dirservice.texts import write
 from tests.samples import ATTRIBUTES, CLASSES, outcome, schema, unit
 
 FUNCTIONS = {
@@ -30,12 +34,28 @@ FUNCTIONS = {
         "drop_index": "(directory, word, index)",
         "candidates": "(directory, wanted)",
     },
+    "searching": {
+        "search": "(directory, base, scope='subtree', wanted='(&)', *, words=None, order=(), limit=None, manage=False)",
+        "how_many": "(directory, base, scope='subtree', wanted='(&)', *, manage=False)",
+    },
+    "federations": {
+        "targets_for": "(directory, name)",
+    },
+    "texts": {
+        "entry_text": "(entry)",
+        "read_entry": "(text)",
+        "write": "(directory)",
+        "read": "(schema, text)",
+        "script_text": "(deeds)",
+        "read_script": "(text)",
+    },
 }
 CONSTANTS = {
     "values": {"SYNTAXES": ("text", "exact", "integer", "truth", "name"), "MAX_VALUE": 60, "MAX_DIGITS": 30},
     "filters": {"MAX_PARTS": 60, "MAX_LEVELS": 12},
     "directories": {"MAX_ENTRIES": 300, "MAX_DEPTH": 12, "MAX_UNDO": 20},
     "indexes": {"INDEXES": ("present", "equal", "order", "pieces")},
+    "searching": {"SCOPES": ("base", "one", "below", "subtree")},
 }
 CLASS_TABLE = {
     "names": {
@@ -94,6 +114,31 @@ CLASS_TABLE = {
             "schema": None, "indexes": None, "undoable": None,
         },
     },
+    "searching": {
+        "Result": {
+            "__len__": "(self)", "__getitem__": "(self, at)", "__iter__": "(self)", "entries": None, "references": None,
+            "looked": None,
+        },
+        "Paging": {
+            "__init__": "(self, directory, size, base, scope='subtree', wanted='(&)', **options)", "page": "(self)",
+            "again": "(self)", "left": None, "is_over": None,
+        },
+    },
+    "federations": {
+        "Federation": {
+            "__init__": "(self, **directories)", "__getitem__": "(self, at)", "__setitem__": "(self, at, worth)",
+            "__iter__": "(self)", "search": "(self, host, base, scope='subtree', wanted='(&)')", "hosts": None,
+        },
+    },
+    "replicas": {
+        "Change": {"__eq__": "(self, other)", "stamp": None, "number": None, "deed": None},
+        "Replica": {
+            "__init__": "(self, word, schema)", "as_directory": "(self)", "add_entry": "(self, entry)", "delete": "(self, name)",
+            "modify": "(self, name, changes)", "rename": "(self, name, leaf, *, under=None, keep=False)",
+            "changes": "(self, vector=None)", "take": "(self, changes)", "pull": "(self, other)", "trim": "(self, vectors)",
+            "mark_of": "(self, name)", "name_of": "(self, mark)", "word": None, "vector": None, "conflicts": None,
+        },
+    },
 }
 
 
@@ -101,8 +146,10 @@ def objects():
     """An object of each class, made anew."""
     comparisons = (Present("a"), Equal("a", "b"), AtLeast("a", "b"), AtMost("a", "b"), Pieces("a", "b", ""))
     filters = (All(), Some(), Not(Present("a")), *comparisons)
-    return (Name("cn=A,ou=b"), Attribute("cn"), ObjectClass("unit"), schema(), unit(), BadName("x"),
-            Directory(schema(), (unit(),)), *filters)
+    directory, replica = Directory(schema(), (unit(),)), Replica("west", schema())
+    replica.add_entry(unit())
+    return (Name("cn=A,ou=b"), Attribute("cn"), ObjectClass("unit"), schema(), unit(), BadName("x"), directory, *filters,
+            search(directory, ""), Paging(directory, 1, ""), Federation(west=directory), replica, replica.changes()[0])
 
 
 class TestInterface(unittest.TestCase):
@@ -166,6 +213,8 @@ class TestGeneralRules(unittest.TestCase):
         for one in objects():
             with self.subTest(one), self.assertRaises(TypeError):
                 iter(one)
+            with self.subTest(one), self.assertRaises(TypeError):
+                list(one)
 
     def test_lists_are_never_tuples(self):
         for call in (lambda: Schema([], ()), lambda: Schema((), []), lambda: Entry("", cn=["a"]),
@@ -175,8 +224,9 @@ class TestGeneralRules(unittest.TestCase):
                      lambda: Directory(schema()).modify("", []), lambda: Directory(schema()).modify("", (("add", "cn", []),)),
                      lambda: Directory(schema()).modify("", (["add", "cn", ()],)), lambda: Directory(schema()).apply([]),
                      lambda: Directory(schema()).apply((["delete", ""],)),
-                     lambda: Directory(schema()).apply((("modify", "", []),))):
-            self.assertIn(outcome(call)[0], ("BadSchema", "BadEntry", "BadChange", "BadDeed"))
+                     lambda: Directory(schema()).apply((("modify", "", []),)), lambda: Replica("west", schema()).take([]),
+                     lambda: Replica("west", schema()).trim([]), lambda: Replica("west", schema()).modify("", [])):
+            self.assertIn(outcome(call)[0], ("BadSchema", "BadEntry", "BadChange", "BadDeed", "BadVector"))
 
     def test_bools_are_no_integers_and_integers_no_bools(self):
         for value in (0, 1):
@@ -186,6 +236,24 @@ class TestGeneralRules(unittest.TestCase):
                 self.assertEqual(outcome(Directory(schema()).apply, (("rename", "", "", None, value),))[0], "BadDeed")
                 changes = (("increment", "luck", bool(value)),)
                 self.assertEqual(outcome(Directory(schema()).modify, "", changes)[0], "BadChange")
+                self.assertEqual(outcome(search, Directory(schema()), "", limit=bool(value))[0], "BadNumber")
+                self.assertEqual(outcome(Paging, Directory(schema()), bool(value), "")[0], "BadNumber")
+                self.assertEqual(outcome(Replica("west", schema()).changes, {"west": bool(value)})[0], "BadVector")
+                self.assertIsNone(Replica("west", schema()).name_of((bool(value), "west")))
+
+    def test_calls_without_a_result_return_none(self):
+        directory, federation = Directory(schema(), (unit(),)), Federation()
+        self.assertIsNone(add_index(directory, "ou", "equal"))
+        self.assertIsNone(drop_index(directory, "ou", "equal"))
+        directory.modify("ou=a", ())
+        self.assertIsNone(directory.undo())
+        self.assertIsNone(federation.__setitem__("west", directory))
+        self.assertIsNone(schema().check(unit()))
+
+    def test_a_generator_raises_its_errors_with_its_first_item(self):
+        walk = Directory(schema()).walk("no name")
+        with self.assertRaises(BadName):
+            next(walk)
 
     def test_errors_are_checked_in_their_order(self):
         self.assertEqual(outcome(Schema, None, None), ("BadSchema", {"part": "attributes", "place": None}))
@@ -207,6 +275,19 @@ class TestGeneralRules(unittest.TestCase):
         given.clear()
         self.assertEqual((one, other), (unit(), unit()))
 
+    def test_later_changes_of_dicts_have_no_effect(self):
+        directories = {"west": Directory(schema(), (unit(),))}
+        federation = Federation(**directories)
+        options = {"words": ("ou",), "order": ("-ou",)}
+        paging = Paging(directories["west"], 1, "", **options)
+        replica = Replica("west", schema())
+        replica.add_entry(unit())
+        vector = replica.vector
+        for one in (directories, options, vector):
+            one.clear()
+        self.assertEqual((federation.hosts, replica.vector), (("west",), {"west": 1}))
+        self.assertEqual(paging.again().page()[0].words, ("ou",))
+
     def test_equal_calls_return_equal_results(self):
         one, other = Schema(ATTRIBUTES, CLASSES), Schema(tuple(list(ATTRIBUTES)), tuple(list(CLASSES)))
         self.assertEqual(one, other)
@@ -220,6 +301,12 @@ class TestGeneralRules(unittest.TestCase):
         for _ in range(2):
             self.assertEqual(first.modify("ou=a", ()), second.modify("ou=a", ()))
             self.assertEqual(candidates(first, "(ou=a)"), candidates(second, "(ou=a)"))
+            self.assertEqual(search(first, "").entries, search(second, "").entries)
+            self.assertEqual(write(first), write(second))
+            self.assertEqual(Federation(a=first).search("a", ""), Federation(a=second).search("a", ""))
+        here, there = Replica("west", schema()), Replica("west", schema())
+        self.assertEqual([here.add_entry(unit()), here.vector], [there.add_entry(unit()), there.vector])
+        self.assertEqual((here.changes(), here.as_directory()), (there.changes(), there.as_directory()))
 
 
 if __name__ == "__main__":
