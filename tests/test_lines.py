@@ -204,7 +204,8 @@ class TestLinesOfScripts(LineTest):
                      "increment x y", "increment x 5 ", "increment", " add x", "name: a", "leaf: a", "replace x1", "increment 5 x"):
             with self.subTest(line):
                 self.check_script("modify: a\n" + line, 2)
-                self.check_script("modify: a\nadd b\n= c\n" + line, 4) if not line.startswith("= ") else None
+                if not line.startswith("= "):
+                    self.check_script("modify: a\nadd b\n= c\n" + line, 4)
                 self.check_script("modify: a\nincrement b 5\n" + line, 3)
         for line in ("=", "= ", "=x", " = x", "== x"):
             self.check_script("modify: a\nadd b\n" + line, 3)
